@@ -1,4 +1,4 @@
-"""What is an integer, and what is a plain value."""
+"""What is an integer, a flag and a plain value, and in which order plain values are told."""
 
 DEEPEST = 4
 
@@ -6,6 +6,16 @@ DEEPEST = 4
 def is_int(thing):
     """Whether any object is an integer: a flag is none."""
     return isinstance(thing, int) and not isinstance(thing, bool)
+
+
+def is_flag(thing):
+    """Whether any object is True or False."""
+    return isinstance(thing, bool)
+
+
+def by_repr(things):
+    """A list of plain values in ascending order of their repr, as a new list."""
+    return sorted(things, key=lambda thing: repr(thing))
 
 
 def is_plain(thing):

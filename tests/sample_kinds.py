@@ -2,32 +2,13 @@
 
 import re
 
-from kindgrove.kinds import Kind
-
-
-class Ranges(Kind):
-    """Integers below ranges (low, high), as [3.7] says; without distances."""
-
-    def own(self, key):
-        return (key, key)
-
-    def join(self, one, other):
-        return (min(one[0], other[0]), max(one[1], other[1]))
-
-    def consistent(self, label, question):
-        return max(label[0], question[0]) <= min(label[1], question[1])
-
-    def matches(self, key, question):
-        return question[0] <= key <= question[1]
-
-    def penalty(self, label, key):
-        low, high = self.join(label, (key, key))
-        return (high - low) - (label[1] - label[0])
-
-    def sides(self, labels):
-        order = sorted(range(len(labels)), key=lambda at: (sum(labels[at]), at))
-        first = order[:len(labels) // 2]
-        return [0 if at in first else 1 for at in range(len(labels))]
+from kindgrove.counted import Counted
+from kindgrove.errors import BadValue
+from kindgrove.grids import Grid
+from kindgrove.kinds import Kind, Measured
+from kindgrove.ranges import Boxes, Ranges
+from kindgrove.reach import Reach
+from kindgrove.trees import Tree
 
 
 class Texts(Kind):
@@ -163,5 +144,6 @@ def odd_things():
         None, True, False, -1, 10 ** 30, 0.0, 1.0, float("nan"), 1j, "", "0", b"", b"0", bytearray(b"0"),
         (), (0,), [], [0], {}, {0: 0}, set(), {0}, frozenset([0]), range(2), slice(1), iter([]), object(), object,
         int, len, Ellipsis, NotImplemented, ValueError(), memoryview(b"0"), (x for x in []), lambda: 0,
-        deep_tuple, deep_list, ((True,),), ([0], []), Ranges(),
+        deep_tuple, deep_list, ((True,),), ([0], []), Ranges(), Kind(), Measured(), Boxes(), Grid(), Grid(0),
+        Counted(len, 1), Reach(Ranges(), [0]), Tree(Ranges()), BadValue(0), Grid, Ranges,
     ]

@@ -2,8 +2,9 @@
 
 import unittest
 
-from sample_kinds import Noting, Ranges, Replacing, odd_things
+from sample_kinds import Noting, Replacing, odd_things
 
+from kindgrove.ranges import Ranges
 from kindgrove.trees import Tree
 
 SHAPE = [[[3, 8], [20, 21, 25]], [[4, 6], [30]], [[9]]]

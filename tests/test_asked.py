@@ -2,9 +2,10 @@
 
 import unittest
 
-from sample_kinds import Divided, Noting, Ranges, Texts, odd_things, snapshot
+from sample_kinds import Divided, Noting, Texts, odd_things, snapshot
 
 from kindgrove.errors import BadSplit, NoRow
+from kindgrove.ranges import Ranges
 from kindgrove.trees import Tree
 
 

@@ -2,9 +2,10 @@
 
 import unittest
 
-from sample_kinds import Noting, Ranges, Replacing, Texts, odd_things, snapshot
+from sample_kinds import Noting, Replacing, Texts, odd_things, snapshot
 
 from kindgrove.errors import BadValue, NoRow
+from kindgrove.ranges import Ranges
 from kindgrove.trees import Tree
 
 

@@ -1,44 +1,96 @@
 """The interface: where each name stands, its methods in its own body, its arguments."""
 
+import importlib
 import inspect
 import unittest
 
-from kindgrove import errors, kinds, trees, values
+from kindgrove import both, counted, grids, kinds, ranges, reach, rests, trees, values
+from kindgrove.kinds import Kind, Measured
 
-TREE = {
-    "__init__": "(self, kind, *, most=4)", "put": "(self, key)", "drop": "(self, number)", "tighten": "(self)",
-    "key_of": "(self, number)", "numbers": "(self)", "shape": "(self)", "view": "(self)", "copy": "(self)",
-    "search": "(self, question, rule=None)", "opened": "(self, question, rule=None)",
-    "lost": "(self, question, rule=None)", "account": "(self, question)", "is_account": "(self, question, thing)",
-}
-KIND = {
+OF_KIND = {
     "own": "(self, key)", "join": "(self, one, other)", "consistent": "(self, label, question)",
     "matches": "(self, key, question)", "penalty": "(self, label, key)", "sides": "(self, labels)",
+}
+OF_MEASURED = {"distance": "(self, key, point)", "bound": "(self, label, point)"}
+OF_BOTH = {**OF_KIND, **OF_MEASURED}
+
+# Each class with its bases and its methods, each of which stands in the body of the class itself.
+CLASSES = {
+    trees.Tree: ((object,), {
+        "__init__": "(self, kind, *, most=4)", "put": "(self, key)", "drop": "(self, number)", "tighten": "(self)",
+        "key_of": "(self, number)", "numbers": "(self)", "shape": "(self)", "view": "(self)", "copy": "(self)",
+        "search": "(self, question, rule=None)", "opened": "(self, question, rule=None)",
+        "lost": "(self, question, rule=None)", "account": "(self, question)", "is_account": "(self, question, thing)",
+        "__contains__": "(self, x)", "__len__": "(self)", "__bool__": "(self)",
+    }),
+    grids.Grid: ((object,), {
+        "__init__": "(self, default=False)", "__getitem__": "(self, at)", "__setitem__": "(self, at, worth)",
+        "__call__": "(self, one, other)", "__contains__": "(self, x)", "__len__": "(self)", "__bool__": "(self)",
+        "__eq__": "(self, other)", "__and__": "(self, other)", "__or__": "(self, other)", "__invert__": "(self)",
+        "__ior__": "(self, other)", "places": "(self)", "under": "(self, other)",
+    }),
+    kinds.Kind: ((object,), OF_KIND),
+    kinds.Measured: ((object,), OF_MEASURED),
+    kinds.Calls: ((Kind, Measured), {
+        "__init__": "(self, *, own, join, consistent, matches, penalty=None, sides=None, distance=None, bound=None)",
+        **OF_BOTH,
+    }),
+    counted.Counted: ((object,), {"__init__": "(self, function, arguments=2)", "clear": "(self)"}),
+    ranges.Ranges: ((Kind, Measured), OF_BOTH),
+    ranges.Boxes: ((Kind, Measured), {"__init__": "(self, dimensions=2)", **OF_BOTH}),
+    rests.Rests: ((Kind,), OF_KIND),
+    rests.Stems: ((Kind,), OF_KIND),
+    rests.Signs: ((Kind,), {"__init__": "(self, width=8)", **OF_KIND}),
+    both.Both: ((Kind, Measured), {"__init__": "(self, one, other)", **OF_BOTH}),
+    both.Coarse: ((Kind, Measured), {"__init__": "(self, kind, squeeze)", **OF_BOTH}),
+    reach.Reach: ((object,), {
+        "__init__": "(self, kind, keys=(), *, most=200)", "add": "(self, key)", "given": "(self)", "labels": "(self)",
+        "pairs": "(self)", "least": "(self, label)", "least_with": "(self, label, key)",
+    }),
+}
+PROPERTIES = {trees.Tree: ["height"], counted.Counted: ["calls"], ranges.Boxes: ["dimensions"],
+              rests.Signs: ["width"], both.Both: ["one", "other"]}
+PLACES = {
+    "trees": ["Tree"], "grids": ["Grid"], "kinds": ["Kind", "Measured", "Calls"], "counted": ["Counted"],
+    "ranges": ["Ranges", "Boxes"], "rests": ["Rests", "Stems", "Signs"], "both": ["Both", "Coarse"],
+    "reach": ["Reach"], "values": ["is_plain"], "errors": ["GroveError"],
 }
 
 
 class InterfaceTest(unittest.TestCase):
 
-    def test_modules(self):
-        self.assertEqual(trees.Tree.__module__, "kindgrove.trees")
-        self.assertEqual(kinds.Kind.__module__, "kindgrove.kinds")
-        self.assertEqual(values.is_plain.__module__, "kindgrove.values")
-        self.assertEqual(errors.GroveError.__module__, "kindgrove.errors")
+    def test_each_name_is_defined_in_its_file(self):
+        for place, names in PLACES.items():
+            module = importlib.import_module(f"kindgrove.{place}")
+            for name in names:
+                self.assertEqual(getattr(module, name).__module__, f"kindgrove.{place}")
+
+    def test_bases(self):
+        for holder, (bases, _) in CLASSES.items():
+            self.assertEqual(holder.__bases__, bases)
 
     def test_methods_and_their_arguments(self):
-        for holder, methods in ((trees.Tree, TREE), (kinds.Kind, KIND)):
+        for holder, (_, methods) in CLASSES.items():
             for name, told in methods.items():
-                with self.subTest(name):
+                with self.subTest(holder=holder, name=name):
                     self.assertEqual(str(inspect.signature(vars(holder)[name])), told)
 
-    def test_other_parts_of_a_tree(self):
-        inside = vars(trees.Tree)
-        self.assertIsInstance(inside["packed"], classmethod)
+    def test_properties(self):
+        for holder, names in PROPERTIES.items():
+            for name in names:
+                self.assertIsInstance(vars(holder)[name], property)
+                self.assertIsNone(vars(holder)[name].fset)
+
+    def test_class_methods_static_methods_and_generators(self):
+        self.assertIsInstance(vars(trees.Tree)["packed"], classmethod)
         self.assertEqual(str(inspect.signature(trees.Tree.packed)), "(kind, shape, *, most=4)")
-        self.assertIsInstance(inside["height"], property)
-        for name in ("__contains__", "__len__", "__bool__"):
-            self.assertIn(name, inside)
+        self.assertIsInstance(vars(ranges.Boxes)["around"], staticmethod)
+        self.assertEqual(str(inspect.signature(ranges.Boxes.around)), "(points)")
         self.assertTrue(inspect.isgeneratorfunction(trees.Tree.search))
+
+    def test_counted_is_called_with_one_or_two(self):
+        self.assertIn("__call__", vars(counted.Counted))
+        self.assertEqual(list(inspect.signature(counted.Counted.__call__).parameters), ["self", "one", "other"])
 
     def test_is_plain(self):
         self.assertEqual(str(inspect.signature(values.is_plain)), "(thing)")

@@ -2,6 +2,7 @@
 
 import ast
 import builtins
+import functools
 import pathlib
 import re
 import unittest
@@ -34,16 +35,16 @@ SPECIAL_METHODS = {"__init__", "__eq__", "__repr__", "__str__", "__len__", "__en
 FUNCTIONS = (ast.FunctionDef, ast.Lambda)
 
 
+@functools.cache
 def walk_all():
-    for name, tree in TREES.items():
-        for node in ast.walk(tree):
-            yield name, node
+    return [(name, node) for name, tree in TREES.items() for node in ast.walk(tree)]
 
 
 def found(*kinds):
     return [(name, node) for name, node in walk_all() if isinstance(node, kinds)]
 
 
+@functools.cache
 def classes():
     return [node for _, node in found(ast.ClassDef)]
 
@@ -52,10 +53,21 @@ def methods_of(node):
     return [part for part in node.body if isinstance(part, ast.FunctionDef)]
 
 
+@functools.cache
 def own_methods():
     return {method.name for node in classes() for method in methods_of(node)}
 
 
+@functools.cache
+def own_properties():
+    return {method.name for node in classes() for method in methods_of(node) if is_property(method)}
+
+
+def is_property(method):
+    return any(isinstance(part, ast.Name) and part.id == "property" for part in method.decorator_list)
+
+
+@functools.cache
 def own_attributes():
     return {node.attr for _, node in found(ast.Attribute) if isinstance(node.ctx, ast.Store)}
 
@@ -66,6 +78,7 @@ def parameters(node):
     return [part.arg for part in told.posonlyargs + told.args + told.kwonlyargs + more]
 
 
+@functools.cache
 def generators():
     names = set()
     for _, node in found(ast.FunctionDef):
@@ -115,7 +128,6 @@ class FilesTest(unittest.TestCase):
                 self.assertNotRegex(node.value, r"\._{1,2}$|^__|[^ -~\n]", name)
         for name, text in TEXTS.items():
             self.assertEqual(re.findall(r"\\[^nt\\'\"]", text), [], name)
-
 
     def test_l27_no_warnings(self):
         for name, text in TEXTS.items():
@@ -230,12 +242,16 @@ class NamesTest(unittest.TestCase):
         decorators = {part for _, node in found(ast.FunctionDef) for part in node.decorator_list}
         for name, node in found(ast.Attribute):
             if node in called:
-                self.assertIn(node.attr, BUILTIN_METHODS | own_methods(), name)
+                # An attribute may hold a callable object (L5).
+                self.assertIn(node.attr, BUILTIN_METHODS | own_methods() | own_attributes(), name)
             elif isinstance(node.ctx, ast.Load) and node not in decorators:
-                properties = {method.name for part in classes() for method in methods_of(part)
-                              if any(isinstance(told, ast.Name) and told.id == "property"
-                                     for told in method.decorator_list)}
-                self.assertIn(node.attr, own_attributes() | properties, name)
+                self.assertIn(node.attr, own_attributes() | own_properties(), name)
+
+    def test_l26_methods_of_builtin_values(self):
+        usable = BUILTIN_METHODS - {"encode", "decode", "hex", "sort"} | SPECIAL_METHODS
+        for kind in (str, int, list, dict, set, bytes):
+            self.assertLessEqual(own_methods() & set(dir(kind)), usable)
+            self.assertLessEqual(own_properties() & set(dir(kind)), set())
 
 
 class FormsTest(unittest.TestCase):
@@ -304,6 +320,38 @@ class FormsTest(unittest.TestCase):
                         told = part.func.id if isinstance(part.func, ast.Name) else part.func.attr
                         self.assertNotIn(told, generators(), name)
 
+    def test_l7_l24_no_sets(self):
+        # As a class has a method add, a set could not be stored (L24); dicts serve.
+        self.assertEqual(found(ast.Set, ast.SetComp), [])
+        self.assertEqual([name for name, node in found(ast.Name) if node.id in ("set", "frozenset")], [])
+
+    def test_l7_stars_in_calls(self):
+        for name, node in found(ast.Call):
+            if any(isinstance(part, ast.Starred) for part in node.args):
+                self.assertIn(ast.unparse(node.func), ("zip", "max", "min"), name)
+                self.assertTrue(all(isinstance(part.value, ast.Name) for part in node.args), name)
+            self.assertTrue(all(part.arg for part in node.keywords), name)
+
+    def test_l22_keys_of_sorted_min_and_max(self):
+        functions = {node.name for tree in TREES.values() for node in tree.body if isinstance(node, ast.FunctionDef)}
+        usable = functions | {"len", "int", "str", "abs", "sum", "min", "max", "tuple"}
+        for name, node in found(ast.keyword):
+            if node.arg == "key":
+                self.assertTrue(isinstance(node.value, ast.Lambda) or node.value.id in usable, name)
+
+    def test_l23_what_is_iterated_on_the_spot(self):
+        spots = []
+        for _, node in walk_all():
+            if isinstance(node, (ast.For, ast.comprehension)):
+                spots.append(node.iter)
+            elif isinstance(node, ast.Call) and ast.unparse(node.func) in (
+                    "list", "tuple", "dict", "sorted", "sum", "any", "all", "enumerate", "zip", "min", "max"):
+                spots += node.args[:1]
+        for name, node in found(ast.Call):
+            told = node.func.id if isinstance(node.func, ast.Name) else node.func.attr
+            if told in ("zip", "enumerate", "reversed", "range", "items", "keys", "values"):
+                self.assertIn(node, spots, name)
+
     def test_l5_no_sort(self):
         for name, node in found(ast.Attribute):
             self.assertNotEqual(node.attr, "sort", name)
@@ -316,6 +364,114 @@ class FormsTest(unittest.TestCase):
                         if isinstance(part, ast.Return):
                             self.assertTrue(isinstance(part.value, ast.Constant)
                                             or ast.unparse(part.value).startswith("len("))
+
+
+OPERATORS = {"__lt__": 2, "__le__": 2, "__gt__": 2, "__ge__": 2, "__ne__": 2, "__eq__": 2, "__and__": 2, "__or__": 2,
+             "__ior__": 2, "__invert__": 1, "__bool__": 1, "__len__": 1, "__iter__": 1, "__contains__": 2,
+             "__getitem__": 2, "__setitem__": 3}
+MAY_CHANGE = {"__ior__", "__setitem__"}
+
+
+class OperatorsTest(unittest.TestCase):
+
+    def functions(self):
+        """All functions and methods by their names, those of one name together; a class stands for its __init__."""
+        told = {}
+        for _, node in found(ast.FunctionDef):
+            told.setdefault(node.name, []).append(node)
+        for node in classes():
+            told[node.name] = [method for method in methods_of(node) if method.name == "__init__"]
+        return told
+
+    def quiet_ones(self):
+        """What may change nothing: operators, properties, and every function that they call."""
+        functions = self.functions()
+        waiting = [method for node in classes() for method in methods_of(node)
+                   if is_property(method) or method.name in OPERATORS and method.name not in MAY_CHANGE]
+        quiet = []
+        while waiting:
+            method = waiting.pop()
+            if method not in quiet:
+                quiet.append(method)
+                for node in ast.walk(method):
+                    if isinstance(node, ast.Call):
+                        told = node.func.id if isinstance(node.func, ast.Name) else node.func.attr
+                        waiting += functions.get(told, [])
+                    elif isinstance(node, ast.Subscript):
+                        waiting += functions.get("__getitem__", [])
+        return quiet
+
+    def test_l5_parameters(self):
+        for node in classes():
+            for method in methods_of(node):
+                if method.name in OPERATORS:
+                    self.assertEqual(len(parameters(method)), OPERATORS[method.name], method.name)
+                    self.assertEqual(len(method.args.args), OPERATORS[method.name])
+                    self.assertEqual((method.args.defaults, method.decorator_list), ([], []))
+
+    def test_l5_operators_and_properties_change_nothing(self):
+        for method in self.quiet_ones():
+            for node in ast.walk(method):
+                is_changed = isinstance(node, (ast.Attribute, ast.Subscript)) and not isinstance(node.ctx, ast.Load)
+                is_own = isinstance(node, ast.Attribute) and ast.unparse(node.value) == "self"
+                self.assertFalse(is_changed and not (is_own and method.name == "__init__"), method.name)
+                self.assertNotIsInstance(node, (ast.Delete, ast.Yield, ast.YieldFrom), method.name)
+                if isinstance(node, ast.AugAssign):
+                    self.assertTrue(isinstance(node.target, ast.Name) and isinstance(node.value, ast.Constant))
+
+    def test_l5_operators_and_properties_call_nothing_that_they_hold(self):
+        for method in self.quiet_ones():
+            for node in ast.walk(method):
+                if isinstance(node, ast.Call) and isinstance(node.func, ast.Attribute):
+                    self.assertNotIn(node.func.attr, own_attributes(), method.name)
+                    self.assertNotIn(node.func.attr, {"append", "extend", "pop", "clear", "update", "insert", "remove",
+                                                      "setdefault", "sort", "reverse"}, method.name)
+                elif isinstance(node, ast.Call):
+                    self.assertNotIn(node.func.id, parameters(method), method.name)
+
+    def test_l5_iteration(self):
+        for node in classes():
+            names = [method.name for method in methods_of(node)]
+            if "__getitem__" in names:
+                self.assertIn("__iter__", names)
+            for method in methods_of(node):
+                if method.name == "__iter__":
+                    self.assertEqual(len(method.body), 1)
+                    self.assertRegex(ast.unparse(method.body[0]), r"^raise TypeError\('[^']+'\)$")
+        self.assertNotIn("keys", own_methods() | own_attributes())
+
+    def test_l5_reversed(self):
+        for name, node in found(ast.Call):
+            if ast.unparse(node.func) == "reversed":
+                self.assertRegex(ast.unparse(node.args[0]), r"^(list|tuple|sorted|range)\(", name)
+
+    def test_l5_not_by_name(self):
+        for name, node in found(ast.Attribute):
+            if node.attr.startswith("_"):
+                self.assertEqual(node.attr, "__init__", name)
+
+    def test_l5_not_implemented(self):
+        self.assertEqual([name for name, node in found(ast.Name) if node.id == "NotImplemented"], [])
+
+    def test_l5_super(self):
+        told = [ast.unparse(node) for _, node in found(ast.Call) if ast.unparse(node.func) == "super"]
+        self.assertEqual(set(told), {"super()"})
+        methods = [method for node in classes() for method in methods_of(node)]
+        used = [node for method in methods for statement in ast.walk(method) if isinstance(statement, ast.Return)
+                for node in ast.walk(statement) if isinstance(node, ast.Call)
+                and ast.unparse(node.func).startswith("super().")]
+        self.assertEqual(len(used), len(told))
+        for method in methods:
+            if "super()" in ast.unparse(method):
+                self.assertTrue(parameters(method)[0] == "self" and method.decorator_list == [])
+
+    def test_l5_bool_and_l28_eq(self):
+        for node in classes():
+            for method in methods_of(node):
+                if method.name in ("__bool__", "__len__"):
+                    self.assertIsInstance(method.body[-1], ast.Return)
+                if method.name == "__bool__":
+                    self.assertRegex(ast.unparse(method.body[-1]), r"^return bool\(")
 
 
 class GeneratorsTest(unittest.TestCase):

@@ -4,9 +4,10 @@ import random
 import unittest
 
 from model import ModelTree
-from sample_kinds import Ranges, Texts, keys_in
+from sample_kinds import Texts, keys_in
 
 from kindgrove.kinds import Kind
+from kindgrove.ranges import Ranges
 from kindgrove.trees import Tree
 
 
@@ -17,24 +18,10 @@ class Halves(Texts):
     sides = Kind.sides
 
 
-class ModelTest(unittest.TestCase):
+class Runs(unittest.TestCase):
+    """Runs of deeds with a tree and a model, for the tests below and for those of other files."""
 
-    def test_texts(self):
-        for most in (2, 3, 4, 5, 9):
-            for seed in range(6):
-                with self.subTest(most=most, seed=seed):
-                    self.run_deeds(Texts(), most, seed, list(range(8)))
-
-    def test_halves(self):
-        for most in (2, 3, 7, 50):
-            with self.subTest(most=most):
-                self.run_deeds(Halves(), most, most, list(range(8)))
-
-    def test_ranges(self):
-        for most in (2, 3, 4, 50):
-            for seed in range(4):
-                with self.subTest(most=most, seed=seed):
-                    self.run_deeds(Ranges(), most, seed, [(0, 3), (5, 5), (-9, 20), (7, 6)])
+    keys = list(range(8))
 
     def run_deeds(self, kind, most, seed, questions):
         chance = random.Random(seed)
@@ -51,13 +38,13 @@ class ModelTest(unittest.TestCase):
             model.drop(number)
             self.assertEqual(tree.view(), model.view())
         self.assertEqual(tree.view(), ("leaf", ()))
-        self.assertEqual(tree.put(3), model.put(3))
+        self.assertEqual(tree.put(self.keys[0]), model.put(self.keys[0]))
         self.compare(tree, model, questions)
 
     def deed(self, tree, model, chance):
         word = chance.choice(["put", "put", "put", "put", "drop", "tighten"])
         if word == "put":
-            key = chance.randrange(8)
+            key = chance.choice(self.keys)
             self.assertEqual(tree.put(key), model.put(key))
         elif word == "drop" and model.keys:
             number = chance.choice(list(model.keys))
@@ -80,7 +67,7 @@ class ModelTest(unittest.TestCase):
             self.assertEqual(tree.lost(question), [])
 
     def check_nodes(self, tree):
-        """The bounds of [7.1]; and below each label of Texts the keys that it has to have among its leaves."""
+        """The bounds of [7.1], and below each label the keys for which it has to speak."""
         def keys_below(view, is_root):
             word, inside = view
             self.assertTrue(len(inside) <= tree.most and (inside or (is_root and word == "leaf")))
@@ -89,15 +76,39 @@ class ModelTest(unittest.TestCase):
             keys = []
             for label, below in inside:
                 found = keys_below(below, False)
-                if isinstance(label, str):
-                    leaves = keys_in(label)
-                    self.assertTrue(all(leaves.count(key) >= found.count(key) for key in found))
-                else:
-                    self.assertTrue(all(label[0] <= key <= label[1] for key in found))
+                self.check_label(label, found)
                 keys += found
             return keys
 
         self.assertEqual(sorted(keys_below(tree.view(), True)), sorted(map(tree.key_of, tree.numbers())))
+
+    def check_label(self, label, keys):
+        """A label of Texts has the keys among its leaves, one of Ranges in its range."""
+        if isinstance(label, str):
+            leaves = keys_in(label)
+            self.assertTrue(all(leaves.count(key) >= keys.count(key) for key in keys))
+        else:
+            self.assertTrue(all(label[0] <= key <= label[1] for key in keys))
+
+
+class ModelTest(Runs):
+
+    def test_texts(self):
+        for most in (2, 3, 4, 5, 9):
+            for seed in range(6):
+                with self.subTest(most=most, seed=seed):
+                    self.run_deeds(Texts(), most, seed, list(range(8)))
+
+    def test_halves(self):
+        for most in (2, 3, 7, 50):
+            with self.subTest(most=most):
+                self.run_deeds(Halves(), most, most, list(range(8)))
+
+    def test_ranges(self):
+        for most in (2, 3, 4, 50):
+            for seed in range(4):
+                with self.subTest(most=most, seed=seed):
+                    self.run_deeds(Ranges(), most, seed, [(0, 3), (5, 5), (-9, 20), (7, 6)])
 
 
 class PackedModelTest(unittest.TestCase):

@@ -3,10 +3,11 @@
 import unittest
 from reprlib import repr as short
 
-from sample_kinds import Noting, Ranges, Replacing, Texts, nested, odd_things, snapshot
+from sample_kinds import Noting, Replacing, Texts, nested, odd_things, snapshot
 
 from kindgrove.errors import BadCount, BadShape, BadValue, TooLarge
 from kindgrove.kinds import Kind
+from kindgrove.ranges import Ranges
 from kindgrove.trees import Tree
 
 BAD_COUNTS = [1, 0, -2, 51, 10 ** 30, True, False, None, "4", 4.0, (4,), [4], b"4", {}, object()]

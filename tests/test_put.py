@@ -3,10 +3,11 @@
 import unittest
 from reprlib import repr as short
 
-from sample_kinds import Divided, Noting, Ranges, Replacing, Texts, odd_things, snapshot
+from sample_kinds import Divided, Noting, Replacing, Texts, odd_things, snapshot
 
 from kindgrove.errors import BadSplit, BadValue
 from kindgrove.kinds import Kind
+from kindgrove.ranges import Ranges
 from kindgrove.trees import Tree
 
 

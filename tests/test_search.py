@@ -3,8 +3,9 @@
 import types
 import unittest
 
-from sample_kinds import Noting, Ranges, Replacing, Texts, snapshot
+from sample_kinds import Noting, Replacing, Texts, snapshot
 
+from kindgrove.ranges import Ranges
 from kindgrove.trees import Tree
 
 SHAPE = [[[3, 8], [20, 21, 25]], [[4, 6], [30]], [[9]]]
