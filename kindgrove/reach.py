@@ -54,18 +54,28 @@ class Reach:
 
     def least(self, label):
         """The smallest number of leaves of a term with this value."""
-        if not self.has_label(label):
-            raise NoLabel(label)
-        return self.known_leaves().fewest[self.joins.spots[label]]
+        spot = self.spot_of(label)
+        return self.known_leaves().terms[spot][0]
 
     def least_with(self, label, key):
         """The smallest number of leaves of a term with this value and with the key among its leaves."""
+        found = self.terms_with(label, key)
+        return found[self.joins.spots[label]][0]
+
+    def spot_of(self, label):
+        """The index of a reached label in the table of joins; an error for any other object."""
+        if not self.has_label(label):
+            raise NoLabel(label)
+        return self.joins.spots[label]
+
+    def terms_with(self, label, key):
+        """What is known of the terms with the key among their leaves; an error if none of them has this value."""
         if not self.has_label(label) or not self.has_key(key):
             raise NoPair(label, key)
         found = self.known_leaves().from_own(self.owned[key])
         if self.joins.spots[label] not in found:
             raise NoPair(label, key)
-        return found[self.joins.spots[label]]
+        return found
 
     def has_label(self, thing):
         """Whether any object is a reached label."""

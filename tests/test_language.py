@@ -289,8 +289,24 @@ class FormsTest(unittest.TestCase):
     def test_l19_errors(self):
         for name, node in found(ast.Raise):
             self.assertTrue(node.exc is None or isinstance(node.exc, ast.Call) and isinstance(node.exc.func, ast.Name))
+        own_errors = {node.name for node in TREES["errors.py"].body if isinstance(node, ast.ClassDef)}
         for name, node in found(ast.ExceptHandler):
-            self.assertIsNotNone(node.type, name)
+            caught = node.type.elts if isinstance(node.type, ast.Tuple) else [node.type]
+            self.assertLessEqual({part.id for part in caught}, own_errors | {"KeyError", "ZeroDivisionError"}, name)
+
+    def test_l19_names_of_caught_errors(self):
+        for name, function in found(ast.FunctionDef):
+            handlers = [node.name for node in ast.walk(function) if isinstance(node, ast.ExceptHandler) and node.name]
+            taken = parameters(function) + [node.id for node in ast.walk(function)
+                                            if isinstance(node, ast.Name) and isinstance(node.ctx, ast.Store)]
+            self.assertEqual(len(handlers), len(set(handlers)), name)
+            self.assertEqual(set(handlers) & set(taken), set(), name)
+            for handler in ast.walk(function):
+                if isinstance(handler, ast.ExceptHandler) and handler.name:
+                    read = [node for node in ast.walk(handler)
+                            if isinstance(node, ast.Name) and node.id == handler.name]
+                    told = [node.value for node in ast.walk(handler) if isinstance(node, ast.Attribute)]
+                    self.assertTrue(all(node in told for node in read), name)
 
     def test_l20_is(self):
         for name, node in found(ast.Compare):
@@ -350,7 +366,7 @@ class FormsTest(unittest.TestCase):
         for name, node in found(ast.Call):
             told = node.func.id if isinstance(node.func, ast.Name) else node.func.attr
             if told in ("zip", "enumerate", "reversed", "range", "items", "keys", "values"):
-                self.assertIn(node, spots, name)
+                self.assertTrue(node in spots, (name, node.lineno))
 
     def test_l5_no_sort(self):
         for name, node in found(ast.Attribute):
