@@ -2,6 +2,7 @@
 
 import re
 
+from kindgrove.both import Both
 from kindgrove.counted import Counted
 from kindgrove.errors import BadValue
 from kindgrove.grids import Grid
@@ -9,6 +10,7 @@ from kindgrove.kinds import Kind, Measured
 from kindgrove.ranges import Boxes, Ranges
 from kindgrove.reach import Reach
 from kindgrove.trees import Tree
+from kindgrove.yards import Yard
 
 
 class Texts(Kind):
@@ -145,5 +147,6 @@ def odd_things():
         (), (0,), [], [0], {}, {0: 0}, set(), {0}, frozenset([0]), range(2), slice(1), iter([]), object(), object,
         int, len, Ellipsis, NotImplemented, ValueError(), memoryview(b"0"), (x for x in []), lambda: 0,
         deep_tuple, deep_list, ((True,),), ([0], []), Ranges(), Kind(), Measured(), Boxes(), Grid(), Grid(0),
-        Counted(len, 1), Reach(Ranges(), [0]), Tree(Ranges()), BadValue(0), Grid, Ranges,
+        Counted(len, 1), Reach(Ranges(), [0]), Tree(Ranges()), BadValue(0), Grid, Ranges, Both(Ranges(), Kind()),
+        Yard(Ranges()), Yard(Ranges()).put(0), Yard(Ranges()).seek(0),
     ]

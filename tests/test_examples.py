@@ -1,8 +1,6 @@
-"""The examples of the document, word by word: those of errors, values, grids, kinds, trees and reaches."""
+"""The examples of the document, word by word, and those that stand in the midst of its points."""
 
 import unittest
-
-from kindgrove.trees import Tree
 
 EXAMPLES = '''
 >>> from kindgrove.ranges import Ranges
@@ -22,6 +20,11 @@ EXAMPLES = '''
 >>> tree.drop(5)
 >>> tree.tighten()
 1
+>>> from kindgrove.nearest import nearest, within
+>>> nearest(tree, 12, 2)
+[(4, 1), (8, 2)]
+>>> within(tree, 12, 9)
+[0, 1, 2, 3]
 >>> Tree.packed(Ranges(), [[1], 2])
 raises BadShape(path=(1,))
 >>> from kindgrove.reach import Reach
@@ -37,6 +40,33 @@ raises NoLabel(label=(9, 9))
 >>> from kindgrove.rests import Stems
 >>> stems = Stems()
 >>> kind = Calls(own=stems.own, join=Grid("zz"), consistent=stems.consistent, matches=stems.matches)
+>>> from kindgrove.verdicts import is_exact, lowest, mended, miss
+>>> [is_exact(kind, ["ab"], ["a"]), is_exact(kind, ["ab"], ["", "b"])]
+[False, True]
+>>> from kindgrove.recipes import rows, shape_of
+>>> recipe, way, question = miss(kind, ["ab"], ["a"])
+>>> [rows(recipe), question, lowest(kind, ["ab"], ["a"])]
+[2, 'a', 2]
+>>> shape_of(recipe)
+[[['ab'], ['ab']]]
+>>> lossy = Tree.packed(kind, shape_of(recipe))
+>>> [list(lossy.search("a")), lossy.lost("a")]
+[[], [0, 1]]
+>>> mended(kind, ["ab"], ["a"]).places()
+[('ab', 'a'), ('zz', 'a')]
+>>> from kindgrove.compared import classes, parting
+>>> classes(kind, ["ab"], ["a", "b"])
+[['ab'], ['zz']]
+>>> parting(kind, ["ab"], ["a"], "ab", "zz")
+([], 'a')
+>>> from kindgrove.weavings import first_miss, play
+>>> works = [("search", (0, 9)), ("put", 4)]
+>>> play(Ranges(), [1, 2, 3], works, (0, 1, 1, 0, 0), most=2, linked=False)
+((0, 1), None)
+>>> play(Ranges(), [1, 2, 3], works, (0, 1, 1, 0, 0, 0), most=2)
+((0, 1, 2, 3), None)
+>>> first_miss(Ranges(), [1, 2, 3], works, most=2) is None
+True
 >>> from kindgrove.ranges import Boxes
 >>> Boxes.around([(1, 2), (3, 0)])
 ((1, 3), (0, 2))
@@ -65,6 +95,25 @@ True
 False
 >>> Signs().own((1, 9, 2))
 6
+'''
+
+# The example behind [11.12], written as calls, and the counted leaves of [4.3].
+PARTS_4_AND_11 = '''
+>>> from kindgrove.kinds import Calls
+>>> from kindgrove.reach import Reach
+>>> join = lambda one, other: one + 1 if one == other < 40 else 0
+>>> doubled = Reach(Calls(own=lambda key: 0, join=join, consistent=None, matches=None), [0])
+>>> [doubled.least(label) == 2 ** label for label in (0, 1, 40)]
+[True, True, True]
+>>> from kindgrove.ranges import Ranges
+>>> from kindgrove.weavings import first_miss, is_miss_weaving
+>>> works = [("search", (0, 9)), ("put", 4)]
+>>> len(first_miss(Ranges(), [1, 2, 3], works, most=2, linked=False))
+5
+>>> is_miss_weaving(Ranges(), [1, 2, 3], works, (0, 1, 1, 0, 0), most=2, linked=False)
+True
+>>> is_miss_weaving(Ranges(), [1, 2, 3], works, (0, 1, 1, 0, 0), most=2)
+False
 '''
 
 
@@ -107,11 +156,13 @@ class ExamplesTest(unittest.TestCase):
     def test_part_3(self):
         self.run_all(PART_3)
 
-    def test_lossy(self):
-        kind = self.run_all(EXAMPLES)["kind"]
-        # The shape that the document reckons by shape_of.
-        lossy = Tree.packed(kind, [[["ab"], ["ab"]]])
-        self.assertEqual([list(lossy.search("a")), lossy.lost("a")], [[], [0, 1]])
+    def test_parts_4_and_11(self):
+        self.run_all(PARTS_4_AND_11)
+
+    def test_all_of_the_examples_are_there(self):
+        """As many lines as the document has: none is left out by the way in which they are read."""
+        self.assertEqual(len(list(entries_of(EXAMPLES))), EXAMPLES.count(">>> "))
+        self.assertEqual(EXAMPLES.count("raises "), 3)
 
 
 if __name__ == "__main__":

@@ -4,7 +4,7 @@ import importlib
 import inspect
 import unittest
 
-from kindgrove import both, counted, grids, kinds, ranges, reach, rests, trees, values
+from kindgrove import both, counted, grids, kinds, ranges, reach, rests, trees, works, yards
 from kindgrove.kinds import Kind, Measured
 
 OF_KIND = {
@@ -47,13 +47,50 @@ CLASSES = {
         "__init__": "(self, kind, keys=(), *, most=200)", "add": "(self, key)", "given": "(self)", "labels": "(self)",
         "pairs": "(self)", "least": "(self, label)", "least_with": "(self, label, key)",
     }),
+    works.Put: ((object,), {"step": "(self)"}),
+    works.Search: ((object,), {"step": "(self)"}),
+    yards.Yard: ((object,), {
+        "__init__": "(self, kind, *, most=4, linked=True)", "put": "(self, key)", "seek": "(self, question)",
+        "view": "(self)", "find": "(self, question)", "run": "(self, work)", "key_of": "(self, number)",
+    }),
 }
 PROPERTIES = {trees.Tree: ["height"], counted.Counted: ["calls"], ranges.Boxes: ["dimensions"],
-              rests.Signs: ["width"], both.Both: ["one", "other"]}
+              rests.Signs: ["width"], both.Both: ["one", "other"],
+              works.Put: ["row_number", "row_key", "is_begun", "is_done"],
+              works.Search: ["question", "told", "is_begun", "is_done"],
+              yards.Yard: ["counter", "height", "widest", "linked"]}
+FUNCTIONS = {
+    "values": {"is_plain": "(thing)"},
+    "recipes": {
+        "value": "(kind, recipe)", "rows": "(recipe)", "key_at": "(recipe, way)", "shortest": "(reach, label)",
+        "shortest_with": "(reach, label, key)", "shape_of": "(recipe)",
+    },
+    "verdicts": {
+        "is_exact": "(kind, keys, questions, rule=None)", "miss": "(kind, keys, questions)",
+        "is_miss": "(kind, keys, questions, thing)", "is_table": "(kind, keys, questions, thing)",
+        "sharpest": "(kind, keys, questions)", "mended": "(kind, keys, questions)", "lowest": "(kind, keys, questions)",
+    },
+    "compared": {
+        "classes": "(kind, keys, questions)", "parting": "(kind, keys, questions, one, other)",
+        "is_parting": "(kind, keys, questions, one, other, thing)", "merged": "(kind, keys, questions)",
+        "parted": "(one, other, keys, questions)", "opens_more": "(one, other, keys, questions)",
+    },
+    "nearest": {
+        "within": "(tree, point, limit, *, bound=None)", "nearest": "(tree, point, many, *, bound=None)",
+        "nodes_for": "(tree, point, many, *, bound=None)", "bound_miss": "(kind, keys, points)",
+        "is_bound_miss": "(kind, keys, points, thing)", "tightest": "(kind, keys, points)",
+    },
+    "weavings": {
+        "play": "(kind, keys, works, order, *, most=4, linked=True)",
+        "weavings": "(kind, keys, works, *, most=4, linked=True, limit=2000)",
+        "first_miss": "(kind, keys, works, *, most=4, linked=True, limit=2000)",
+        "is_miss_weaving": "(kind, keys, works, thing, *, most=4, linked=True)",
+    },
+}
 PLACES = {
     "trees": ["Tree"], "grids": ["Grid"], "kinds": ["Kind", "Measured", "Calls"], "counted": ["Counted"],
     "ranges": ["Ranges", "Boxes"], "rests": ["Rests", "Stems", "Signs"], "both": ["Both", "Coarse"],
-    "reach": ["Reach"], "values": ["is_plain"], "errors": ["GroveError"],
+    "reach": ["Reach"], "errors": ["GroveError"], "works": ["Put", "Search"], "yards": ["Yard"],
 }
 
 
@@ -64,6 +101,15 @@ class InterfaceTest(unittest.TestCase):
             module = importlib.import_module(f"kindgrove.{place}")
             for name in names:
                 self.assertEqual(getattr(module, name).__module__, f"kindgrove.{place}")
+
+    def test_functions_and_their_arguments(self):
+        for place, functions in FUNCTIONS.items():
+            module = importlib.import_module(f"kindgrove.{place}")
+            for name, told in functions.items():
+                with self.subTest(place=place, name=name):
+                    self.assertTrue(inspect.isfunction(getattr(module, name)))
+                    self.assertEqual(getattr(module, name).__module__, f"kindgrove.{place}")
+                    self.assertEqual(str(inspect.signature(getattr(module, name))), told)
 
     def test_bases(self):
         for holder, (bases, _) in CLASSES.items():
@@ -91,9 +137,6 @@ class InterfaceTest(unittest.TestCase):
     def test_counted_is_called_with_one_or_two(self):
         self.assertIn("__call__", vars(counted.Counted))
         self.assertEqual(list(inspect.signature(counted.Counted.__call__).parameters), ["self", "one", "other"])
-
-    def test_is_plain(self):
-        self.assertEqual(str(inspect.signature(values.is_plain)), "(thing)")
 
 
 if __name__ == "__main__":
