@@ -29,23 +29,34 @@ class Plot:
 
 
 class Ground:
-    """The plots of all nodes by their numbers, the nodes of each level from left to right, and the counter."""
+    """The plots of all nodes by their numbers, the nodes of each level from left to right, and the counter.
+
+    What is told of a ground is reckoned once, when it is not changed any more.
+    """
 
     def __init__(self, plots, levels, ticks):
         self.plots = plots
         self.levels = levels
         self.ticks = ticks
-        self.known_text = None
+        self.told_text = None
+        self.told_places = None
 
     def changeable(self):
         """An equal ground, to be changed."""
         return Ground(dict(self.plots), [list(row) for row in self.levels], self.ticks)
 
     def text(self):
-        """The view and the counter as a text, equal for grounds in which these are equal; written once."""
-        if self.known_text is None:
-            self.known_text = repr((self.ticks, view_of_ground(self)))
-        return self.known_text
+        """The view and the counter as a text, equal for grounds in which these are equal."""
+        if self.told_text is None:
+            self.told_text = repr((self.ticks, view_of_ground(self)))
+        return self.told_text
+
+    def known_places(self):
+        """For each node its level and its index there."""
+        if self.told_places is None:
+            self.told_places = {node: (level, at)
+                                for level, row in enumerate(self.levels) for at, node in enumerate(row)}
+        return self.told_places
 
 
 def empty_ground():
@@ -103,14 +114,9 @@ def holder_of(ground, number, level):
     return node
 
 
-def places_in(ground):
-    """For each node its level and its index there."""
-    return {node: (level, at) for level, row in enumerate(ground.levels) for at, node in enumerate(row)}
-
-
 def view_of_ground(ground):
     """A list for each level, the leaves first, with (entries, mark, is_open, is_posted) for each node."""
-    places = places_in(ground)
+    places = ground.known_places()
     return [view_of_level(ground, level, places) for level in range(len(ground.levels))]
 
 

@@ -17,7 +17,7 @@ class Hunt:
         self.paths = []
         self.waiting = []
 
-    def run(self):
+    def go_on(self):
         """Opens the root and all that has to be opened below it."""
         if self.many == 0:
             return

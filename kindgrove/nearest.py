@@ -96,7 +96,7 @@ def hunt_for(tree, point, many, bound):
         raise BadCount(many)
     check_measured(tree.kind)
     hunt = Hunt(tree, point, many, bound_to(tree.kind, point, bound))
-    hunt.run()
+    hunt.go_on()
     return hunt
 
 

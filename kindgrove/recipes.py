@@ -152,7 +152,8 @@ def labels_used(terms, spots):
     used = {spot: True for spot in spots}
     waiting = list(used)
     while len(waiting) > 0:
-        for part in terms[waiting.pop()][1:]:
+        spot = waiting.pop()
+        for part in terms[spot][1:]:
             if part is not None and part not in used:
                 used[part] = True
                 waiting.append(part)

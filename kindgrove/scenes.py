@@ -2,7 +2,6 @@
 
 from kindgrove.cases import check_values
 from kindgrove.errors import BadCount, BadValue, BadWork
-from kindgrove.ground import places_in
 from kindgrove.stages import PutStage
 from kindgrove.trees import GREATEST_WIDTH, LEAST_WIDTH
 from kindgrove.values import is_int, is_plain
@@ -27,9 +26,9 @@ class Moment:
         """Whether all works are done."""
         return all([stage.done for stage in self.stages])
 
-    def sign(self):
+    def state(self):
         """What tells this moment from others of the same scene."""
-        places = places_in(self.ground)
+        places = self.ground.known_places()
         return (self.ground.text(), tuple([stage.sign(places) for stage in self.stages]), tuple(self.earlier))
 
 
@@ -45,7 +44,7 @@ class Scene:
         made = [yard.put(told) if name == "put" else yard.seek(told) for name, told in works]
         self.start = Moment(yard.ground, [work.stage for work in made], [None for work in made])
 
-    def behind(self, moment, at):
+    def moment_behind(self, moment, at):
         """The moment behind one more step of a work that is not done."""
         stage = moment.stages[at]
         ground, further = stage.after(self.plan, moment.ground)

@@ -27,7 +27,7 @@ class PutStage:
         plot = ground.plots[node]
         if plot.level == 0:
             grown, new = ground_with_row(plan, ground, node, self.number)
-            return (grown, self.behind(ground, grown, 0, new))
+            return (grown, self.stage_behind(ground, grown, 0, new))
         at = cheapest(plan.kind, plot, plan.row_keys[self.number])
         return (ground, PutStage(self.number, begun=True, node=plot.entries[at].below))
 
@@ -38,9 +38,9 @@ class PutStage:
             grown = ground_with_widened(plan, ground, self.number, self.level)
         else:
             grown, new = ground_with_posted(plan, ground, self.new)
-        return (grown, self.behind(ground, grown, self.level + 1, new))
+        return (grown, self.stage_behind(ground, grown, self.level + 1, new))
 
-    def behind(self, ground, grown, level, new):
+    def stage_behind(self, ground, grown, level, new):
         """The stage behind a change at a level: the put is done at the level of the root, or if there is a new root."""
         if len(grown.levels) > len(ground.levels) or level + 1 == len(grown.levels):
             return PutStage(self.number, begun=True, done=True)

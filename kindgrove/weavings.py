@@ -68,7 +68,7 @@ class States:
     def __init__(self, scene, limit):
         self.scene = scene
         self.limit = limit
-        self.seen = {scene.start.sign(): True}
+        self.seen = {scene.start.state(): True}
         self.newest = [(scene.start, ())]
         self.wrong = []
 
@@ -87,7 +87,7 @@ class States:
         Such a label is told when all states are there: if they are too many, that is told instead.
         """
         try:
-            return [self.scene.behind(moment, at)]
+            return [self.scene.moment_behind(moment, at)]
         except BadValue as error:
             self.wrong.append(error.value)
             return []
@@ -96,9 +96,9 @@ class States:
         """Takes over the states among some moments that were not there before, as the newest ones."""
         self.newest = []
         for moment, weaving in found:
-            sign = moment.sign()
-            if sign not in self.seen:
-                self.seen[sign] = True
+            state = moment.state()
+            if state not in self.seen:
+                self.seen[state] = True
                 self.newest.append((moment, weaving))
                 if len(self.seen) > self.limit:
                     raise TooMany()
@@ -132,7 +132,7 @@ def scene_behind(kind, keys, works, order, most, linked):
         if not is_unfinished(at, finished):
             raise BadOrder(place)
         try:
-            moment = scene.behind(moment, at)
+            moment = scene.moment_behind(moment, at)
         except BadValue:
             check_order(order, place, finished)
             raise

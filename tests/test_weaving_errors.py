@@ -134,6 +134,7 @@ class BadLabelTest(Checks):
         self.assertIs(is_miss_weaving(kind, keys, WORKS, (1, 1), most=2), False)
         for ask in (weavings, first_miss):
             self.fails(BadValue, lambda: ask(kind, keys, WORKS, most=2), value=[4])
+            self.fails(BadValue, lambda: ask(kind, keys, [("put", 4)], most=2), value=[4])
 
     def test_an_order_that_goes_wrong_is_told_ahead_of_labels(self):
         kind = Replacing(Ranges(), {("own", (4,)): [4]})
